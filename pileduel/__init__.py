@@ -1,0 +1,1 @@
+"""Pileduel: two hands at a pile, and which of them brings a saying about."""
