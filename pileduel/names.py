@@ -9,3 +9,10 @@ def is_name(text):
         return False
     # Python's own islower would let by small letters beyond a to z.
     return all(["a" <= sign <= "z" for sign in text])
+
+
+def numbers_by_name(names):
+    numbers = {}
+    for number, name in enumerate(names):
+        numbers[name] = number
+    return numbers
