@@ -1,4 +1,4 @@
-"""Texts near a given one, and piles to a given height, for the tests to walk through."""
+"""Texts and papers near a given one, and piles to a given height, for the tests to walk through."""
 
 import itertools
 
@@ -34,6 +34,38 @@ def word_changes(text, words):
             for other in others:
                 told["\n".join(" ".join(one) for one in rows[:number] + [other] + rows[number + 1:])] = True
     return list(told)
+
+
+def number_changes(value, numbers):
+    """The value with one number in it, however deep, exchanged."""
+    if not isinstance(value, tuple):
+        return [number for number in numbers if number != value]
+    return [value[:at] + (other,) + value[at + 1:] for at in range(len(value))
+            for other in number_changes(value[at], numbers)]
+
+
+def length_changes(values, numbers):
+    """The tuple with one thing in it left out, twice or moved, or a number put in."""
+    told = {}
+    for at in range(len(values) + 1):
+        without = values[:at] + values[at + 1:]
+        told[without] = True
+        for thing in numbers + values[at:at + 1]:
+            told[values[:at] + (thing,) + values[at:]] = True
+        for to in range(len(without) + 1):
+            told[without[:to] + values[at:at + 1] + without[to:]] = True
+    return list(told)
+
+
+def row_changes(row, numbers):
+    """A paper's row with one number exchanged, or with its targets, its why or a rest of another length."""
+    told = number_changes(row, numbers)
+    told += [row[:2] + (targets,) + row[3:] for targets in length_changes(row[2], numbers)]
+    told += [row[:4] + (why,) for why in length_changes(row[4], ())]
+    for at, triple in enumerate(row[4]):
+        for rest in length_changes(triple[2], numbers) + [None]:
+            told.append(row[:4] + (row[4][:at] + (triple[:2] + (rest,),) + row[4][at + 1:],))
+    return told
 
 
 def piles(letters, most):

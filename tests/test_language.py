@@ -18,8 +18,8 @@ EXPRESSIONS = (
     ast.Slice,
 )
 OWN_NAMES = set(
-    "len range enumerate zip min max sum abs sorted reversed int str bool list tuple dict isinstance ord repr any all"
-    " divmod Exception ValueError KeyError IndexError LookupError ZeroDivisionError ArithmeticError OverflowError"
+    "len range enumerate zip min max sum abs sorted reversed int str bool list tuple dict set isinstance ord repr"
+    " any all divmod Exception ValueError KeyError IndexError LookupError ZeroDivisionError ArithmeticError OverflowError"
     " RuntimeError NotImplementedError StopIteration".split()
 )
 OWN_METHODS = set(
@@ -35,7 +35,7 @@ WORDS_OUT = re.compile(
 NAMES_OUT = set(
     "register mro elements open input version_info with_traceback add_note attrgetter breakpoint builtins compile"
     " copyright credits delattr dir eval exec exit gc getattr globals hasattr help id importlib license locals"
-    " methodcaller os quit setattr super vars sys set frozenset chr format format_map".split()
+    " methodcaller os quit setattr super vars sys frozenset chr format format_map".split()
 )
 
 
@@ -212,7 +212,31 @@ class LanguageTest(unittest.TestCase):
             if isinstance(node.func, ast.Attribute):
                 self.assertIn(node.func.attr, OWN_METHODS | own, self.where(path, node))
         for path, node in nodes(ast.Attribute):
-            self.assertNotIn(node.attr, NAMES_OUT - {"set"}, self.where(path, node))
+            self.assertNotIn(node.attr, NAMES_OUT, self.where(path, node))
+
+    def test_sets_are_used_on_the_spot(self):
+        for path, tree in trees():
+            spots = []
+            for node in ast.walk(tree):
+                if isinstance(node, ast.Call) and isinstance(node.func, ast.Name) and node.func.id in ("sorted", "len"):
+                    if not node.keywords:
+                        spots.extend(node.args)
+            for node in ast.walk(tree):
+                if isinstance(node, ast.Name) and node.id == "set":
+                    used = [spot for spot in spots if isinstance(spot, ast.Call) and spot.func is node]
+                    self.assertTrue(used, self.where(path, node))
+
+    def test_what_a_loop_walks_is_not_changed_in_it(self):
+        changing = ("append", "clear", "extend", "insert", "pop", "remove", "reverse", "setdefault", "update")
+        for path, loop in nodes(ast.For):
+            walked = {node.id for node in ast.walk(loop.iter) if isinstance(node, ast.Name)}
+            for node in (inner for part in loop.body for inner in ast.walk(part)):
+                if isinstance(node, ast.Call) and isinstance(node.func, ast.Attribute) and node.func.attr in changing:
+                    if isinstance(node.func.value, ast.Name):
+                        self.assertNotIn(node.func.value.id, walked, self.where(path, node))
+                elif isinstance(node, ast.Subscript) and isinstance(node.ctx, ast.Store):
+                    if isinstance(node.value, ast.Name):
+                        self.assertNotIn(node.value.id, walked, self.where(path, node))
 
     def test_walked_at_once(self):
         for path, tree in trees():

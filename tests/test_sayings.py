@@ -4,6 +4,7 @@ import unittest
 from changes import piles
 from pileduel.errors import DuelError, NoSaying
 from pileduel.sayings import is_in, look_saying, reads
+from plain import plainly_reads
 
 # Places 0 and 1, own stands 2 and 3, letters 0 to 2.
 GAME = ((("p", 0), ("q", 1)), ("x", "y", "z"), ())
@@ -13,16 +14,6 @@ SAYING = (2, ARROWS, (1, 2, 3))
 MACHINE = ((3, 0, (0, 2), 4), (0, 0, (1,), 1), (1, 1, (0, 1, 3), 2), (0, 1, (), 0), (2, 0, (2,), 0), (0, 0, (2, 3), 9),
            (1, 0, (0,), 1), (3, 1, (3,), 7), (1, 2, (1,), 3), (2, 2, (0,), 3))
 MACHINE_ENDS = (0, 2, 3)
-
-
-def plainly_reads(arrows, ends, stand, pile):
-    if not pile:
-        return stand in ends
-    for arrow in arrows:
-        if arrow[0] == stand and arrow[1] == pile[0]:
-            if all(plainly_reads(arrows, ends, target, pile[1:]) for target in arrow[2]):
-                return True
-    return False
 
 
 class LookSayingCase(unittest.TestCase):
