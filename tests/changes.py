@@ -36,6 +36,18 @@ def word_changes(text, words):
     return list(told)
 
 
+def with_row(paper, number, *row):
+    return paper[:number] + (row,) + paper[number + 1:]
+
+
+def with_why(paper, number, *why):
+    return paper[:number] + (paper[number][:4] + (why,),) + paper[number + 1:]
+
+
+def with_cost(paper, number, cost):
+    return with_row(paper, number, *paper[number][:3], cost, paper[number][4])
+
+
 def number_changes(value, numbers):
     """The value with one number in it, however deep, exchanged."""
     if not isinstance(value, tuple):

@@ -1,4 +1,4 @@
-"""The document's words gone through plainly, each row of choices by itself, and games to compare by."""
+"""The document's words gone through plainly, each row of choices by itself, and drawn games to compare by."""
 
 import itertools
 import random
@@ -148,33 +148,26 @@ def plain_cost(arrows, ends, stand, pile):
     return min(costs, default=None)
 
 
-# Games and sayings of which large machines are made, with costs up to sixty.
-RICH = (
-    (((("p", 0), ("q", 1), ("r", 0)), ("x", "y", "z"), (
-        (2, 0, 0, (2, 1)), (0, 1, 2, (0, 2)), (0, 2, 0, (1,)), (2, 1, 2, (0,)), (0, 1, 1, ()), (1, 0, 0, (1,)),
-        (1, 1, 0, (2, 0)), (1, 2, 2, ()),
-    )), (2, (
-        (1, 1, (3, 4)), (1, 2, (4,)), (2, 2, (3,)), (2, 2, (4,)), (3, 1, ()), (3, 2, (3, 4)), (4, 1, (3,)), (4, 2, (3, 4)),
-    ), (3, 4))),
-    (((("p", 0), ("q", 0), ("r", 1)), ("x", "y", "z"), (
-        (0, 0, 2, (1,)), (0, 1, 1, (0, 0)), (2, 0, 1, (0,)), (1, 0, 0, (1,)), (2, 1, 2, (0, 0)), (1, 0, 2, ()),
-        (2, 0, 1, ()), (0, 1, 0, ()),
-    )), (2, (
-        (0, 0, (3, 4)), (0, 2, (4,)), (1, 1, ()), (1, 2, ()), (3, 0, (3,)), (3, 0, (4,)), (4, 0, ()), (4, 2, (4,)),
-    ), (0, 3, 4))),
-    (((("p", 1), ("q", 0), ("r", 1)), ("x", "y", "z"), (
-        (0, 1, 1, (1,)), (1, 1, 1, (0,)), (1, 0, 0, (1, 2)), (0, 2, 1, (1, 0)), (1, 0, 0, ()), (0, 0, 1, (0, 1)),
-        (1, 0, 2, ()), (0, 0, 1, ()),
-    )), (2, (
-        (1, 2, ()), (2, 0, (3, 4)), (2, 1, (3,)), (2, 1, (4,)), (3, 0, (3,)), (3, 0, (4,)), (3, 1, ()), (3, 2, (3,)),
-    ), (0, 2))),
-    (((("p", 0), ("q", 1), ("r", 0)), ("x", "y", "z"), (
-        (0, 2, 2, ()), (1, 1, 0, (2,)), (2, 2, 1, (1,)), (0, 2, 2, (2, 1)), (2, 1, 2, (2, 2)), (2, 1, 0, ()),
-        (1, 1, 2, (1,)), (0, 2, 0, (1, 1)),
-    )), (2, (
-        (0, 1, (3, 4)), (1, 0, (3,)), (2, 0, (3, 4)), (3, 1, ()), (3, 1, (3,)), (3, 2, (3,)), (4, 2, ()), (4, 2, (4,)),
-    ), (0, 2))),
-)
+def all_runs(saying, paper, place, pile):
+    """Each run from where one stands, by each choice of rows."""
+    runs = [((), (place,))]
+    for letter in pile:
+        longer = []
+        for run, stands in runs:
+            ways = [[at for at, row in enumerate(paper) if row[:2] == (stand, letter)] for stand in stands]
+            for numbers in itertools.product(*ways):
+                layer = tuple(zip(stands, numbers))
+                longer.append((run + (layer,), together(paper[number][2] for number in numbers)))
+        runs = longer
+    return [run for run, stands in runs if set(stands) <= set(saying[2])]
+
+
+def plain_run_cost(paper, run, stand):
+    """The greatest sum along a way, way by way."""
+    if not run:
+        return 0
+    row = paper[dict(run[0])[stand]]
+    return row[3] + max((plain_run_cost(paper, run[1:], target) for target in row[2]), default=0)
 
 
 def some_game(seed, hands=None):

@@ -2,26 +2,17 @@ import copy
 import unittest
 
 from changes import piles
+from examples import GAME, MACHINE, RICH, SAYING
 from pileduel.closing import follows, machine
 from pileduel.errors import DuelError, TooMany
 from pileduel.joined import both, either
 from pileduel.readings import readings
 from pileduel.sayings import is_in, reads
-from plain import RICH, PlainPlay, kept_of, plain_cost, plain_follows, plain_machine, samples, some_saying
+from plain import PlainPlay, kept_of, plain_cost, plain_follows, plain_machine, samples, some_saying
 
 FIRST = (("p", 0), ("q", 0), ("r", 0))
 MIXED = (("p", 0), ("q", 1), ("r", 0))
 LETTERS = ("x", "y", "z")
-
-# Place 0 the first's, 1 the other's, own stand 2: all that follows is told in MACHINE.
-GAME = ((("p", 0), ("q", 1)), LETTERS, (
-    (0, 0, 0, ()), (0, 1, 0, (0,)), (0, 2, 0, (1, 0)), (1, 0, 0, ()), (1, 0, 0, (0,)), (1, 1, 1, (0, 0)), (0, 0, 1, (0,)),
-))
-SAYING = (1, ((0, 1, (2,)), (2, 0, ()), (2, 1, (2,))), (0,))
-MACHINE = (
-    (0, 0, (0,), 1), (0, 1, (0,), 2), (0, 1, (2,), 0), (0, 2, (), 1), (1, 0, (0,), 2), (1, 1, (0,), 4),
-    (2, 0, (), 0), (2, 1, (2,), 0),
-)
 
 
 def first_game(*rules):

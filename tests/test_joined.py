@@ -161,6 +161,11 @@ class SoTest(JoinedCase):
                 told = plainly_reads(ONE[1], ONE[2], place, pile) or plainly_reads(OTHER[1], OTHER[2], place, pile)
                 self.assertIs(is_in(one, place, pile), told)
 
+    def test_ends_rise(self):
+        for function in (either, both):
+            self.told(function, (7, (), (1, 8)), (0, (), (1,)), (7, (), (1, 8)))
+            self.told(function, (0, (), (1,)), (7, (), (1, 8)), (7, (), (1, 8)))
+
     def test_small_ones_joined_are_let_by(self):
         one = (1, ((0, 0, (2,)), (2, 1, ())), (0, 2))
         other = (1, ((0, 0, ()), (1, 0, (2,)), (2, 0, (2,))), (1, 2))

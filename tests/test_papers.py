@@ -1,55 +1,13 @@
 import copy
 import unittest
 
-from changes import length_changes, piles, row_changes
+from changes import length_changes, piles, row_changes, with_cost, with_row, with_why
+from examples import GAME, PAPER, SAYING, WIDE_GAME, WIDE_PAPER, WIDE_SAYING
 from pileduel.closing import machine
 from pileduel.errors import DuelError, NoPaper
 from pileduel.papers import paper_holds
 from pileduel.sayings import reads
 from plain import PlainPlay, plain_paper_at
-
-# Place 0 the first's, 1 the other's, own stand 2.
-GAME = ((("p", 0), ("q", 1)), ("x", "y", "z"), (
-    (0, 0, 0, ()), (0, 1, 0, (0,)), (0, 2, 0, (1, 0)), (1, 0, 0, ()), (1, 0, 0, (0,)), (1, 1, 1, (0, 0)), (0, 0, 1, (0,)),
-))
-SAYING = (1, ((0, 1, (2,)), (2, 0, ()), (2, 1, (2,))), (0,))
-PAPER = (
-    (0, 1, (2,), 0, ()),
-    (2, 0, (), 0, ()),
-    (2, 1, (2,), 0, ()),
-    (0, 0, (0,), 1, ((0, None, ()),)),
-    (0, 2, (), 1, ((2, 0, (1,)),)),
-    (0, 1, (0,), 2, ((1, 3, ()),)),
-    (1, 0, (0,), 2, ((3, None, ()), (4, 3, ()))),
-    (1, 1, (0,), 4, ((5, 6, (3,)),)),
-)
-
-# Place 0 the first's, 1 the other's, own stands 2 and 3: first rows with two targets, and with none.
-WIDE_GAME = ((("p", 0), ("q", 1)), ("x", "y"), (
-    (0, 0, 1, ()), (0, 1, 1, (0, 1)), (1, 1, 0, (0, 0)), (1, 1, 0, ()),
-))
-WIDE_SAYING = (2, ((1, 0, (2, 3)), (2, 0, (2,)), (2, 1, ()), (3, 1, (2,))), (2,))
-WIDE_PAPER = (
-    (1, 0, (2, 3), 0, ()),
-    (2, 0, (2,), 0, ()),
-    (2, 1, (), 0, ()),
-    (3, 1, (2,), 0, ()),
-    (0, 0, (1,), 1, ((0, None, ()),)),
-    (0, 1, (2,), 1, ((1, 0, (2, 3)),)),
-    (1, 1, (0, 2, 3), 2, ((2, 4, (0,)), (3, None, ()))),
-)
-
-
-def with_row(paper, number, *row):
-    return paper[:number] + (row,) + paper[number + 1:]
-
-
-def with_why(paper, number, *why):
-    return paper[:number] + (paper[number][:4] + (why,),) + paper[number + 1:]
-
-
-def with_cost(paper, number, cost):
-    return with_row(paper, number, *paper[number][:3], cost, paper[number][4])
 
 
 def refused_at(game, saying, paper):
@@ -85,12 +43,16 @@ class HoldsTest(PaperCase):
         self.holds(WIDE_PAPER, WIDE_GAME, WIDE_SAYING)
 
     def test_stands_of_high_numbers(self):
-        # Own stands from 1 to 20; read from the stands on the right of the row ahead.
+        # Own stands from 1 to 20.
         game = ((("p", 0),), ("x", "y"), ((0, 1, 0, (0, 0)),))
         saying = (20, ((0, 0, (1, 2)), (1, 0, (8, 20)), (2, 0, (1, 9, 16))), ())
         rows = tuple(arrow + (0, ()) for arrow in saying[1])
         self.holds(rows + ((0, 1, (1, 8, 9, 16, 20), 1, ((0, 0, (1, 2)),)),), game, saying)
         self.refused(rows + ((0, 1, (8, 16, 1, 9, 20), 1, ((0, 0, (1, 2)),)),), 3, game, saying)
+        saying = (20, ((0, 0, (1, 2)), (1, 0, (8,)), (2, 0, (1,))), ())
+        rows = tuple(arrow + (0, ()) for arrow in saying[1])
+        self.holds(rows + ((0, 1, (1, 8), 1, ((0, 0, (1, 2)),)),), game, saying)
+        self.refused(rows + ((0, 1, (8, 1), 1, ((0, 0, (1, 2)),)),), 3, game, saying)
 
     def test_a_paper_without_rows(self):
         self.holds((), (GAME[0], GAME[1], ()), (0, (), ()))
