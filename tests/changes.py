@@ -48,6 +48,11 @@ def with_cost(paper, number, cost):
     return with_row(paper, number, *paper[number][:3], cost, paper[number][4])
 
 
+def dearer(paper, by):
+    """The paper with all costs raised, each more than those of the rows it is made of need."""
+    return tuple(row[:3] + (row[3] * 2 * by + by * (1 if row[4] else 0), row[4]) for row in paper)
+
+
 def number_changes(value, numbers):
     """The value with one number in it, however deep, exchanged."""
     if not isinstance(value, tuple):

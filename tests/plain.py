@@ -93,6 +93,14 @@ def all_whys(game, ahead, stand, letter):
             for row in rows]
 
 
+def wider(game, paper):
+    """The paper and behind it whatever follows of its rows, with each why, cheap or dear."""
+    told = paper
+    for stand, letter in sorted({rule[:2] for rule in game[2]}):
+        told += tuple((stand, letter, targets, cost, why) for why, targets, cost in all_whys(game, paper, stand, letter))
+    return told
+
+
 def plain_paper_at(game, saying, paper):
     """Where a paper is refused, or None; all that may stand is written out and compared."""
     for number, (stand, letter, targets, cost, why) in enumerate(paper):

@@ -1,7 +1,7 @@
 import copy
 import unittest
 
-from changes import piles, with_cost
+from changes import dearer, piles, with_cost
 from examples import GAME, PAPER, RICH, SAYING, WIDE_GAME, WIDE_PAPER, WIDE_SAYING
 from pileduel.closing import machine
 from pileduel.papermaker import paper_for
@@ -21,11 +21,6 @@ FREE_SAYING = (3, (
 
 def free_paper(*costs):
     return tuple(arrow + (cost, ()) for arrow, cost in zip(FREE_SAYING[1], costs, strict=True))
-
-
-def dearer(paper, by):
-    """The paper with all costs raised, each more than those of the rows it is made of need."""
-    return tuple(row[:3] + (row[3] * 2 * by + by * (1 if row[4] else 0), row[4]) for row in paper)
 
 
 class RunCase(unittest.TestCase):
