@@ -211,3 +211,64 @@ def some_saying(seed, game):
 def samples(many, hands=None):
     games = [some_game(seed, hands) for seed in range(many)]
     return [(game, some_saying(seed, game)) for seed, game in enumerate(games)]
+
+
+def plain_run(program, choices, most):
+    """A program gone through step by step, with the calls that are still open."""
+    switch, procedure, at, calls, steps, left = 0, 0, 0, [], 0, list(choices)
+    while True:
+        while at == len(program[1][procedure]):
+            if not calls:
+                return ("over", steps)
+            procedure, at = calls.pop()
+        if steps == most:
+            return ("more", steps)
+        word, *numbers = program[1][procedure][at]
+        if word == "mark":
+            return ("marked", steps + 1)
+        if word in ("ask", "chance") and not left:
+            return ("lacks", steps)
+        steps += 1
+        if word in ("ask", "chance"):
+            at = numbers[left.pop(0)]
+        elif word == "if":
+            at = numbers[0] if switch == 1 else numbers[1]
+        elif word == "set":
+            switch, at = numbers[0], at + 1
+        elif word == "call":
+            calls.append((procedure, at + 1))
+            procedure, at = numbers[0], 0
+        elif calls:
+            procedure, at = calls.pop()
+        else:
+            return ("over", steps)
+
+
+def some_program(seed):
+    draw = random.Random(seed)
+    switches = draw.randint(0, 1)
+    words = ["ask", "chance", "call", "back", "mark", "ask", "chance", "call"] + ["set", "if"] * 2 * switches
+    sizes = [draw.randint(1, 4) for procedure in range(draw.randint(1, 3))]
+    procedures = []
+    for size in sizes:
+        steps = []
+        for word in draw.choices(words, k=size):
+            if word in ("ask", "chance", "if"):
+                steps.append((word, draw.randrange(size), draw.randrange(size)))
+            elif word in ("set", "call"):
+                steps.append((word, draw.randrange(2 if word == "set" else len(sizes))))
+            else:
+                steps.append((word,))
+        procedures.append(tuple(steps))
+    return (switches, tuple(procedures))
+
+
+def some_runs(many):
+    """Programs with choices and most, as a run is asked for."""
+    told = []
+    for seed in range(many):
+        draw = random.Random(seed)
+        for turn in range(4):
+            choices = tuple(draw.randint(0, 1) for choice in range(draw.randint(0, 12)))
+            told.append((some_program(seed), choices, draw.choice((draw.randint(1, 8), draw.randint(1, 60)))))
+    return told

@@ -1,18 +1,24 @@
-"""The rows of the promise over the whole program, over games and sayings of several kinds."""
+"""The rows of the promise over the whole program, over games and sayings of several kinds.
+
+That a program's runs are its plays is in test_compiled.
+"""
 
 import itertools
 import unittest
 
 from changes import dearer, piles
 from examples import GAME, RICH, SAYING, WIDE_GAME, WIDE_SAYING
+from pileduel.again import as_saying
 from pileduel.changed import turned, with_rule, without_rule
-from pileduel.closing import machine
+from pileduel.closing import follows, machine
 from pileduel.errors import NoFit
+from pileduel.games import rules_at
 from pileduel.joined import both, either
 from pileduel.otherplan import plan_keeps, plan_of
 from pileduel.papermaker import paper_for
 from pileduel.papers import paper_holds
 from pileduel.play import behind, behind_all, rules_here
+from pileduel.readings import readings
 from pileduel.runs import least_cost, rule_to_go, run_behind, run_cost, run_from
 from pileduel.sayings import is_in, reads
 from pileduel.sets import sets_come_up, stands_reading
@@ -179,6 +185,30 @@ class JoinedTest(unittest.TestCase):
                 self.assertIs(is_in(both(game, one, other), *here), all(answers))
 
 
+class AgainTest(unittest.TestCase):
+    def test_a_machines_own_set_is_brought_about_from_just_that_set(self):
+        seen = {}
+        for game, saying in CASES:
+            told = read_stands(game, saying)
+            again = as_saying(game, saying, machine(game, saying))
+            self.assertEqual({here for here in stands(game, 3) if is_in(again, *here)}, told)
+            self.assertEqual(read_stands(game, again, 1000), told)
+            paper = paper_for(game, again, 1000)
+            # There already, wherever it is brought about at all.
+            for here in stands(game, 2):
+                self.assertEqual(least_cost(again, paper, *here), 0 if here in told else None)
+                self.assertEqual(least_moves(game, again, *here), 0 if here in told else None)
+            seen[len(told)] = True
+        self.assertGreater(len(seen), 20)
+
+    def test_of_joined_sayings(self):
+        for number, (game, one) in enumerate(samples(40)):
+            other = some_saying(300 + number, game)
+            for saying in (either(game, one, other), both(game, one, other)):
+                again = as_saying(game, saying, machine(game, saying, 1000))
+                self.assertEqual(read_stands(game, again, 1000), read_stands(game, saying, 1000))
+
+
 class AloneTest(unittest.TestCase):
     def test_costs_tell_the_least_moves_by_a_way_that_is_told(self):
         seen = {}
@@ -197,6 +227,37 @@ class AloneTest(unittest.TestCase):
                     self.assertIsNone(way_from(game, saying, place, pile))
                 seen[(single, cost)] = True
         self.assertGreater(len(seen), 10)
+
+
+class ListsTest(unittest.TestCase):
+    def test_lists_told_may_be_changed(self):
+        game, saying = RICH[0]
+        arrows = machine(game, saying)
+        for ask in (
+            lambda: rules_at(game, 0, 1), lambda: rules_here(game, 0, (1,)), lambda: readings(arrows, 0, (1, 2)),
+            lambda: follows(game, arrows), lambda: sets_come_up(game, arrows, saying[2]),
+        ):
+            told = ask()
+            self.assertIs(type(told), list)
+            before = repr(told)
+            told.append(told.pop(0))
+            told.append(None)
+            self.assertEqual(repr(ask()), before)
+            told.clear()
+            self.assertEqual(repr(ask()), before)
+
+    def test_what_is_told_else_holds_no_list(self):
+        for game, saying in CASES[:20] + list(RICH):
+            paper = paper_for(game, saying)
+            told = [
+                machine(game, saying), paper, plan_of(game, saying, paper), as_saying(game, saying, machine(game, saying)),
+                either(game, saying, saying), both(game, saying, saying),
+            ]
+            told += [run_from(saying, paper, *here) for here in stands(game, 2)]
+            for value in told:
+                self.assertNotIn("[", repr(value))
+                self.assertNotIn("{", repr(value))
+                self.assertIsInstance(value, (tuple, type(None)))
 
 
 if __name__ == "__main__":
