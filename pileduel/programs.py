@@ -46,8 +46,6 @@ def word_at(program, point):
 # Where a point goes on: pairs of the switch's answer and the points in its stead, the top first.
 def goings_on(program, answer, point):
     word = word_at(program, point)
-    if word == "mark":
-        return []
     if word is None or word == "back":
         return [(answer, ())]
     step = program[1][point[0]][point[1]]
@@ -56,6 +54,7 @@ def goings_on(program, answer, point):
         return [(answer, ((step[1], 0), beneath))]
     if word == "set":
         return [(step[1], (beneath,))]
+    # Either step of ask and chance; mark has none, so it doesn't go on.
     steps = step[1:]
     if word == "if":
         steps = (step[1] if answer == 1 else step[2],)
